@@ -1,0 +1,1 @@
+"""Ownhues: each place of a web with a list of hues of its own."""

@@ -1,0 +1,109 @@
+"""Values and checks that several of the test files use."""
+
+import copy
+import unittest
+from itertools import permutations
+
+from ownhues.webs import Web
+
+
+class Thing:
+    """A value of a class that the program knows nothing of."""
+
+
+def no_integers():
+    """Values that are not integers; True and False among them, and what equals an integer."""
+    return [True, False, None, "", "0", "1", b"1", 0.0, 1.0, 2.5, 1j, [], [0], [1], (), (0,), (0, 1),
+            {}, {0: 1}, {0}, set(), frozenset([1]), range(2), Thing(), int, len]
+
+
+def no_counts():
+    """Values that are not integers from 0 on."""
+    return [-1, -2, -(10 ** 9)] + no_integers()
+
+
+def no_lists():
+    """Values that are not lists; some of them hold what a list of integers could hold."""
+    return [0, 1, True, False, None, "", "0", "012", b"\x00\x01", 1.0, (), (0,), (0, 1), (0, 1, 2), {}, {0: 1},
+            {0, 1}, set(), frozenset(), range(3), iter([0, 1]), (x for x in [0, 1]), Thing(), list]
+
+
+def square():
+    """An even ring of four places."""
+    return Web(4, [(0, 1), (1, 2), (2, 3), (0, 3)])
+
+
+def pairs(places):
+    """All ties that a web with so many places can have, ascending."""
+    return [(u, v) for u in range(places) for v in range(u + 1, places)]
+
+
+def small_webs():
+    """All webs with at most four places, and some with five, as (places, ascending ties)."""
+    for places in range(5):
+        every = pairs(places)
+        for bits in range(2 ** len(every)):
+            yield places, [tie for at, tie in enumerate(every) if bits >> at & 1]
+    for bits in range(0, 2 ** 10, 7):
+        yield 5, [tie for at, tie in enumerate(pairs(5)) if bits >> at & 1]
+
+
+def short_lists(places, most):
+    """All lists of at most so many different places."""
+    for length in range(most + 1):
+        for chosen in permutations(range(places), length):
+            yield list(chosen)
+
+
+class Checked(unittest.TestCase):
+    """A test case that looks at kinds, too."""
+
+    def check_raises(self, kind, call, *passed):
+        """The call raises an error of just this class, and leaves lists that it is passed as they are."""
+        before = [copy.deepcopy(value) if isinstance(value, list) and plain(value) else None for value in passed]
+        try:
+            call(*passed)
+        except kind as error:
+            self.assertIs(type(error), kind)
+        else:
+            self.fail(f"{kind.__name__} is not raised for {passed!r}")
+        for old, value in zip(before, passed):
+            if old is not None:
+                self.check_same(value, old)
+
+    def check_same(self, found, wanted):
+        """Equal, and of the same kinds throughout: True is not 1, and a tuple is no list."""
+        self.assertEqual(found, wanted)
+        self.check_kinds(found, wanted)
+
+    def check_kinds(self, found, wanted):
+        self.assertIs(type(found), type(wanted), (found, wanted))
+        if isinstance(wanted, (list, tuple)):
+            for one, other in zip(found, wanted):
+                self.check_kinds(one, other)
+
+    def check_no_list_twice(self, value, *others):
+        """No list stands twice in the value, and none of it stands in the others."""
+        found = lists_in(value)
+        for at, one in enumerate(found):
+            for other in found[at + 1:]:
+                self.assertIsNot(one, other)
+            for passed in others:
+                for other in lists_in(passed):
+                    self.assertIsNot(one, other)
+
+
+def plain(value):
+    """Whether the value is made of what copies compare equal to."""
+    if isinstance(value, (list, tuple)):
+        return all(plain(entry) for entry in value)
+    return value is None or isinstance(value, (int, str, bytes, float, dict, set))
+
+
+def lists_in(value):
+    """All lists that a value of lists and tuples is made of, itself included."""
+    found = [value] if isinstance(value, list) else []
+    if isinstance(value, (list, tuple)):
+        for entry in value:
+            found.extend(lists_in(entry))
+    return found
