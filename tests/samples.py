@@ -1,8 +1,9 @@
 """Values and checks that several of the test files use."""
 
 import copy
+import random
 import unittest
-from itertools import permutations
+from itertools import permutations, product
 
 from ownhues.webs import Web
 
@@ -11,10 +12,20 @@ class Thing:
     """A value of a class that the program knows nothing of."""
 
 
+class EqualToAll:
+    """A value that says of itself that it is equal to all others."""
+
+    def __eq__(self, other):
+        return True
+
+    def __hash__(self):
+        return hash(1)
+
+
 def no_integers():
     """Values that are not integers; True and False among them, and what equals an integer."""
     return [True, False, None, "", "0", "1", b"1", 0.0, 1.0, 2.5, 1j, [], [0], [1], (), (0,), (0, 1),
-            {}, {0: 1}, {0}, set(), frozenset([1]), range(2), Thing(), int, len]
+            {}, {0: 1}, {0}, set(), frozenset([1]), range(2), Thing(), EqualToAll(), int, len]
 
 
 def no_counts():
@@ -53,6 +64,59 @@ def short_lists(places, most):
     for length in range(most + 1):
         for chosen in permutations(range(places), length):
             yield list(chosen)
+
+
+def along(places):
+    """The ties of a way over the places."""
+    return [(min(u, v), max(u, v)) for u, v in zip(places, places[1:])]
+
+
+def around(places):
+    """The ties of a ring over the places."""
+    return along(list(places) + [places[0]])
+
+
+def moved(ties, order):
+    """The ties with each place exchanged for the one at its place in the order."""
+    return sorted(tuple(sorted((order[u], order[v]))) for u, v in ties)
+
+
+def drawn_ties(draw, places, many):
+    """So many ties, or all there are, drawn by an own source with a fixed beginning."""
+    every = pairs(places)
+    return sorted(draw.sample(every, min(many, len(every))))
+
+
+def drawn_order(draw, places):
+    """The places in a drawn order."""
+    return draw.sample(range(places), places)
+
+
+def drawing(beginning):
+    """A source of numbers that are the same in each run."""
+    return random.Random(beginning)
+
+
+def colourings(ties, lists):
+    """All colourings by the lists, by trying all choices."""
+    return [list(chosen) for chosen in product(*lists) if all(chosen[u] != chosen[v] for u, v in ties)]
+
+
+def has_colouring(ties, lists):
+    """Whether one of all choices is a colouring."""
+    return any(all(chosen[u] != chosen[v] for u, v in ties) for chosen in product(*lists))
+
+
+def any_values():
+    """Values of many kinds, which are not what is asked for anywhere."""
+    deep = []
+    for _ in range(60):
+        deep = [deep]
+    return no_integers() + no_lists() + [
+        -1, 10 ** 9, 10 ** 30, "always", "odd ring", "barred", "x" * 2000, b"", [[]], [[[]]], deep, [None], [True],
+        [False], [()], [(0,)], [(0, 0, 0)], [("0", 1)], [(0, None)], [(None, 0)], [(True, 1)], [{}], [set()], ((),),
+        ([],), ((0, 1), (1, None)), [[0, 1], [1, None]], {"a": 1}, {(0, 1): [0]}, [Thing()], (Thing(), Thing()),
+        [1.0], [0, 1.0], [0] * 4000, [(0, 1)] * 2000, print, Checked, square()]
 
 
 class Checked(unittest.TestCase):

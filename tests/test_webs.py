@@ -6,7 +6,8 @@ from itertools import permutations, product
 
 from ownhues.errors import InvalidPlace, InvalidWeb
 from ownhues.webs import Web
-from samples import Checked, Thing, no_counts, no_integers, no_lists, pairs, short_lists, small_webs, square
+from samples import (Checked, EqualToAll, Thing, no_counts, no_integers, no_lists, pairs, short_lists, small_webs,
+                     square)
 
 
 def near_by_ties(place, ties):
@@ -477,7 +478,10 @@ class EqualTest(Checked):
         web = Web(2, [(0, 1)])
         for value in no_counts() + no_lists() + [2, [(0, 1)], (2, [(0, 1)]), [[1], [0]], Alike(), "2 0-1", Web]:
             with self.subTest(value=value):
-                self.check_equal(web, value, False)
+                if isinstance(value, EqualToAll):
+                    self.assertIs(web == value, False)
+                else:
+                    self.check_equal(web, value, False)
         self.check_equal(Web(0, []), 0, False)
         self.check_equal(Web(0, []), [], False)
         self.check_equal(Web(0, []), None, False)
