@@ -1,7 +1,8 @@
 """Webs that can be coloured for all lists of two hues, and the shapes that bar the others."""
 
+from ownhues.among import near_among
 from ownhues.cores import core, good_parts
-from ownhues.walks import near_in, walk
+from ownhues.walks import walk
 from ownhues.webs import Web
 
 
@@ -99,7 +100,7 @@ def _fewest_ties(web):
 def _shape_of(web):
     """The shape that all ties of the web make up."""
     tied = [place for place in range(len(web)) if web.neighbours(place)]
-    near = near_in(web, tied)
+    near = near_among(web, tied)
     hubs = [place for place in tied if len(near[place]) > 2]
     if not hubs:
         return ("odd ring", walk(near, tied[0], near[tied[0]][0])[:-1])

@@ -1,9 +1,9 @@
 """The core of a web, which is left when leaves are struck away, and its good parts."""
 
+from ownhues.among import near_among, parts_among
 from ownhues.errors import InvalidPlace
 from ownhues.kinds import are_ascending_counts
-from ownhues.walks import near_in, walk
-from ownhues.webs import Web
+from ownhues.walks import walk
 
 
 def core(web):
@@ -41,16 +41,14 @@ def _least_leaf(near):
 
 def _core_parts(web):
     """The parts of the core, by their least places."""
-    left = core(web)[1]
-    rest = Web(len(web), [(u, v) for u, v in web.ties if u in left and v in left])
-    return [part for part in rest.parts() if part[0] in left]
+    return parts_among(web, core(web)[1])
 
 
 def _form(web, places):
     """What a part of the core is told as, or None if it is not good."""
     if len(places) == 1:
         return ("one", places[0])
-    near = near_in(web, places)
+    near = near_among(web, places)
     hubs = [place for place in places if len(near[place]) > 2]
     if not hubs:
         return _even_ring(near, places[0])

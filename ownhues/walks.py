@@ -1,11 +1,6 @@
 """Walks over places that have just two ties, on which there is one way to go on."""
 
 
-def near_in(web, places):
-    """For each of the places the ascending list of those among them that are tied to it."""
-    return {place: [near for near in web.neighbours(place) if near in places] for place in places}
-
-
 def walk(near, start, first):
     """The places from start over first and on, up to the first one without just two ties, or back to start."""
     way = [start, first]

@@ -119,6 +119,26 @@ def any_values():
         [1.0], [0, 1.0], [0] * 4000, [(0, 1)] * 2000, print, Checked, square()]
 
 
+def wrong_lists(lists):
+    """What no lists of a web are, made from such lists of a web with at least one place."""
+    found = [value for value in any_values() if not isinstance(value, list) or value == []]
+    found += [tuple(lists), lists[1:], lists + [[]], [tuple(hues) for hues in lists], dict(enumerate(lists))]
+    for at in range(len(lists)):
+        for wrong in ([2, 1], [1, 1], [-1, 1], [True, 2], [1, True], [False], [0, 1.0], [None], [[1]], [0, 2, 1],
+                      (1, 2), "12", {1, 2}, None, 1, [1, 2, 2], ["1"], (), "", {}):
+            found.append(lists[:at] + [wrong] + lists[at + 1:])
+    return found
+
+
+def spoil(value):
+    """Change all lists in the value."""
+    for entry in value if isinstance(value, (list, tuple)) else []:
+        spoil(entry)
+    if isinstance(value, list):
+        value.append(99)
+        value.reverse()
+
+
 class Checked(unittest.TestCase):
     """A test case that looks at kinds, too."""
 

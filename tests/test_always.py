@@ -11,7 +11,7 @@ from ownhues.forcings import two_hues
 from ownhues.lists import check_lists
 from ownhues.webs import Web
 from samples import (Checked, along, around, drawing, drawn_order, drawn_ties, has_colouring, moved, pairs, small_webs,
-                     square)
+                     spoil, square)
 from shapes import (all_twos, core_parts_of, good_form, keeps_point_12, rings_with_way, shape_places, shape_ties,
                     struck_and_left, theta)
 
@@ -215,18 +215,10 @@ class AlwaysTest(AlwaysCase):
             self.check_same(answer, before)
             self.check_no_list_twice([answer, always(web)], ties, web.ties)
             for part in answer:
-                self.spoil(part)
+                spoil(part)
             self.check_same(always(web), before)
             self.check_same(always(Web(places, ties)), before)
             self.check_same(web.ties, sorted(ties))
-
-    def spoil(self, value):
-        """Change all lists in the value."""
-        for entry in value if isinstance(value, (list, tuple)) else []:
-            self.spoil(entry)
-        if isinstance(value, list):
-            value.append(99)
-            value.reverse()
 
     def test_equal_webs(self):
         draw = drawing(38)
