@@ -18,10 +18,24 @@ def check_lengths(web, lengths):
         raise InvalidLengths("a length is 0")
 
 
+def hard_places(web, places, lengths):
+    """What is left of the places when those with more hues than ties are taken away, as long as there are some.
+
+    Those can be coloured behind all that are left, whatever hues these have.
+    """
+    left = places
+    easy = places
+    while easy:
+        near = near_among(web, left)
+        easy = [place for place in left if lengths[place] > len(near[place])]
+        left = [place for place in left if place not in easy]
+    return left
+
+
 def enough(web, lengths):
     """That the lengths are enough; or lists of these lengths that have no colouring."""
     check_lengths(web, lengths)
-    hard = _hard_places(web, lengths)
+    hard = hard_places(web, list(range(len(web))), lengths)
     rest = _web_among(web, hard)
     asked = [lengths[place] for place in hard]
     for found in _unlike_lists(asked, max([len(hard) - 1] + asked)):
@@ -49,20 +63,6 @@ def bad_lists(web):
     """How many lists of two have no colouring, alike ones counted once."""
     found = _unlike_lists([2 for place in range(len(web))], 2 * len(web))
     return len([lists for lists in found if two_hues(web, lists)[0] == "barred"])
-
-
-def _hard_places(web, lengths):
-    """The places that are left when places with more hues than ties are taken away, as long as there are some.
-
-    Those can be coloured behind all that are left, whatever hues these have.
-    """
-    left = list(range(len(web)))
-    easy = left
-    while easy:
-        near = near_among(web, left)
-        easy = [place for place in left if lengths[place] > len(near[place])]
-        left = [place for place in left if place not in easy]
-    return left
 
 
 def _web_among(web, places):

@@ -119,6 +119,12 @@ def any_values():
         [1.0], [0, 1.0], [0] * 4000, [(0, 1)] * 2000, print, Checked, square()]
 
 
+def other_values(*right):
+    """The values of any_values without those that are written as the right ones are."""
+    written = [repr(value) for value in right]
+    return [value for value in any_values() if repr(value) not in written]
+
+
 def wrong_lists(lists):
     """What no lists of a web are, made from such lists of a web with at least one place."""
     found = [value for value in any_values() if not isinstance(value, list) or value == []]

@@ -8,8 +8,8 @@ from ownhues import lengths as lengths_module
 from ownhues.errors import InvalidLengths
 from ownhues.lengths import bad_lists, enough, least_lengths
 from ownhues.webs import Web
-from samples import (Checked, along, any_values, around, drawing, drawn_ties, has_colouring, moved, no_counts, pairs,
-                     small_webs, spoil, square)
+from samples import (Checked, along, any_values, around, drawing, drawn_ties, has_colouring, moved, no_counts,
+                     other_values, pairs, small_webs, spoil, square)
 from shapes import theta
 
 
@@ -197,7 +197,7 @@ class EnoughTest(LengthsCase):
 
     def test_wrong_lengths(self):
         for web, right in ((Web(1, []), [1]), (Web(2, [(0, 1)]), [2, 1]), (square(), [2, 2, 2, 2])):
-            found = [value for value in any_values() if value not in ([1], [True], [1.0])]
+            found = other_values([1])
             found += [[1.0] * len(web), [True] * len(web), tuple(right), right[1:], right + [1], right + right]
             for at in range(len(web)):
                 for wrong in [0] + no_counts():
@@ -205,7 +205,7 @@ class EnoughTest(LengthsCase):
             for wrong in found:
                 with self.subTest(wrong=wrong):
                     self.check_raises(InvalidLengths, enough, web, wrong)
-        for wrong in [value for value in any_values() if value != []] + [[1], (1,)]:
+        for wrong in other_values([]) + [[1], (1,)]:
             self.check_raises(InvalidLengths, enough, Web(0, []), wrong)
 
     def test_copies(self):

@@ -11,7 +11,7 @@ from ownhues.lists import is_colouring
 from ownhues.longer import decided, fewest_longer, first_colouring, is_cases
 from ownhues.webs import Web
 from samples import (Checked, Thing, along, any_values, around, colourings, drawing, drawn_ties, has_colouring,
-                     no_integers, pairs, small_webs, spoil, square, wrong_lists)
+                     no_integers, other_values, pairs, small_webs, spoil, square, wrong_lists)
 
 
 def hues_left(ties, lists, coloured, place):
@@ -96,7 +96,7 @@ class LongerCase(Checked):
             for wrong in wrong_lists(lists):
                 with self.subTest(wrong=wrong):
                     self.check_raises(InvalidLists, call, web, wrong)
-        for wrong in [value for value in any_values() if value != []] + [[[]], [[0]], ([],)]:
+        for wrong in other_values([]) + [[[]], [[0]], ([],)]:
             self.check_raises(InvalidLists, call, Web(0, []), wrong)
 
 
