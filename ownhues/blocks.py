@@ -55,8 +55,8 @@ def _barring_lists(web, part, own):
     """Lists for all places that bar the part, whose blocks are all complete or odd rings.
 
     Each block has hues of its own, the same ones at all of its places, as many as a place has ties in it: too few to
-    colour the block with them alone. So in a block that one place joins to all others, this place gets a hue of
-    another block; and what is left without the block is barred likewise, down to the last block.
+    colour the block with them alone. So in a block that just one place joins to other blocks, that place gets a
+    hue of another block; and what is left without the block is barred likewise, down to the last block.
     """
     lists = [[] if place in part else list(range(len(web.neighbours(place)))) for place in range(len(web))]
     new = 0
